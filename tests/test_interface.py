@@ -1,0 +1,72 @@
+"""The interface: each name stands in its file, with its arguments and their defaults."""
+
+import importlib
+import inspect
+import unittest
+
+FUNCTIONS = {
+    "fractions": {
+        "fraction_of": "upper, lower=1",
+        "added": "one, other",
+        "taken_away": "one, other",
+        "multiplied": "one, other",
+        "divided": "one, other",
+        "is_less": "one, other",
+        "show_fraction": "one",
+        "read_fraction": "text",
+    },
+    "polys": {"exponents_to": "boxes, degree"},
+    "polytexts": {"read_poly": "text, boxes"},
+}
+CLASSES = {
+    "polys": {
+        "Poly": {
+            "__init__": "self, boxes, terms=None",
+            "terms": "self",
+            "degree": "self",
+            "worth": "self, numbers",
+            "plus": "self, other",
+            "by": "self, other",
+            "scaled": "self, number",
+            "__eq__": None,
+            "__len__": None,
+            "__str__": None,
+            "__repr__": None,
+        },
+    },
+}
+
+
+def file_of(name):
+    return importlib.import_module(f"boughkept.{name}")
+
+
+def arguments(called):
+    return ", ".join([str(argument) for argument in inspect.signature(called).parameters.values()])
+
+
+class TestInterface(unittest.TestCase):
+    def test_functions(self):
+        for name, functions in FUNCTIONS.items():
+            for function, expected in functions.items():
+                with self.subTest(file=name, function=function):
+                    found = vars(file_of(name))[function]
+                    self.assertTrue(inspect.isfunction(found))
+                    self.assertEqual(found.__module__, f"boughkept.{name}")
+                    self.assertEqual(arguments(found), expected)
+
+    def test_classes(self):
+        for name, classes in CLASSES.items():
+            for made, methods in classes.items():
+                found = vars(file_of(name))[made]
+                self.assertTrue(inspect.isclass(found))
+                self.assertEqual(found.__module__, f"boughkept.{name}")
+                for method, expected in methods.items():
+                    with self.subTest(file=name, made=made, method=method):
+                        self.assertIn(method, vars(found))
+                        if expected is not None:
+                            self.assertEqual(arguments(vars(found)[method]), expected)
+
+
+if __name__ == "__main__":
+    unittest.main()
