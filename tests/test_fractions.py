@@ -9,7 +9,7 @@ from boughkept.errors import Nought, NoText
 from boughkept.fractions import (
     added, divided, fraction_of, is_less, multiplied, read_fraction, show_fraction, taken_away,
 )
-from helpers import chance, one_sign_off, pair, refusal
+from helpers import SIGNS, chance, one_sign_off, pair, refusal
 
 FORM = re.compile(r"(-?)(0|[1-9][0-9]{0,29})(?:/([1-9][0-9]{0,29}))?", re.ASCII)
 
@@ -164,6 +164,14 @@ class TestWritten(unittest.TestCase):
 
 
 class TestRefused(unittest.TestCase):
+    def check(self, text):
+        """Holds what is told of a text against another way of reading it."""
+        expected = expected_of(text)
+        if expected is None:
+            self.assertEqual(refusal(NoText, read_fraction, text).row, 0)
+        else:
+            self.assertEqual(read_fraction(text), expected)
+
     def test_texts_that_are_none(self):
         for text in (
             "", "-", "+1", "+", " 1", "1 ", "1 /2", "1/ 2", "- 1", " ", "01", "00", "-01", "007/2", "1/02", "-0", "0/1",
@@ -192,11 +200,12 @@ class TestRefused(unittest.TestCase):
         texts = [show_fraction(pair(one)) for one in some_fractions(5, 6)]
         for text in texts + ["0", "1", "-1", "1/2", "-1/2", "-12/35", "10/3", "7" * 30 + "/2", "-" + "7" * 30]:
             for other in one_sign_off(text, signs):
-                expected = expected_of(other)
-                if expected is None:
-                    self.assertEqual(refusal(NoText, read_fraction, other).row, 0)
-                else:
-                    self.assertEqual(read_fraction(other), expected)
+                self.check(other)
+
+    def test_any_sign_at_any_place(self):
+        for text in ("0", "7", "-7", "7/3", "-10/21"):
+            for other in one_sign_off(text, SIGNS):
+                self.check(other)
 
     def test_all_short_texts(self):
         signs = "0124-/+ "
@@ -204,11 +213,7 @@ class TestRefused(unittest.TestCase):
         for length in range(5):
             texts = [text + sign for text in texts for sign in signs]
             for text in texts:
-                expected = expected_of(text)
-                if expected is None:
-                    self.assertEqual(refusal(NoText, read_fraction, text).row, 0)
-                else:
-                    self.assertEqual(read_fraction(text), expected)
+                self.check(text)
 
 
 class TestToldAgain(unittest.TestCase):

@@ -17,6 +17,30 @@ FUNCTIONS = {
     },
     "polys": {"exponents_to": "boxes, degree"},
     "polytexts": {"read_poly": "text, boxes"},
+    "woods": {
+        "is_name": "text",
+        "look_wood": "wood",
+        "makers_of": "wood",
+        "kind_of": "wood, maker",
+        "parts_of": "wood, maker",
+    },
+    "trees": {
+        "look_tree": "wood, tree",
+        "tree_kind": "wood, tree",
+        "height_of": "tree",
+        "size_of": "tree",
+        "plain_of": "tree",
+        "is_same": "one, other",
+        "part_trees": "tree",
+        "made_of": "maker, trees",
+    },
+    "words": {
+        "word_of": "tree",
+        "tree_of": "wood, word",
+        "show_tree": "tree",
+        "read_tree": "wood, text",
+    },
+    "woodtexts": {"show_wood": "wood", "read_wood": "text"},
 }
 CLASSES = {
     "polys": {

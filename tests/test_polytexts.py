@@ -7,7 +7,7 @@ from fractions import Fraction
 from boughkept.errors import NoBox, NoText
 from boughkept.polys import Poly
 from boughkept.polytexts import read_poly
-from helpers import chance, one_sign_off, pair, refusal
+from helpers import SIGNS, chance, one_sign_off, pair, refusal
 
 NUMBER = r"-?[0-9]{1,30}(?:/[0-9]{1,30})?"
 TERM = re.compile(rf"({NUMBER})((?: x[0-9]{{1,2}}(?:\^[0-9])?)*)", re.ASCII)
@@ -172,6 +172,12 @@ class TestReadBack(unittest.TestCase):
         for text in texts:
             for other in one_sign_off(text, "0123459x^-+/ "):
                 for boxes in (1, 4):
+                    self.check(other, boxes)
+
+    def test_any_sign_at_any_place(self):
+        for text in ("0", "5", "1 x0", "-1/2 x0 x1^2", "3 x2 + 1 x0^2"):
+            for other in one_sign_off(text, SIGNS):
+                for boxes in (0, 3):
                     self.check(other, boxes)
 
     def test_terms_moved_about(self):
