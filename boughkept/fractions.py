@@ -20,7 +20,7 @@ def fraction_of(upper, lower=1):
 
 
 def common_divisor(one, other):
-    """The greatest common divisor of two numbers from 0 on, not both 0."""
+    """The greatest common divisor of two numbers from 0 on, 0 of two noughts."""
     while other != 0:
         one, other = other, one % other
     return one
@@ -99,3 +99,10 @@ def read_figures(text):
     if len(text) > 1 and text[0] == "0":
         raise NoText(0)
     return int(text)
+
+
+def is_short(text):
+    """Whether these are one or two figures, without a nought ahead of another."""
+    if not 1 <= len(text) <= 2 or not all([sign in FIGURES for sign in text]):
+        return False
+    return len(text) == 1 or text[0] != "0"

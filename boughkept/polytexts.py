@@ -1,7 +1,7 @@
 """Reading a Poly's text."""
 
 from boughkept.errors import NoBox, NoText
-from boughkept.fractions import FIGURES, read_fraction
+from boughkept.fractions import is_short, read_fraction
 from boughkept.polys import Poly, place_of
 
 
@@ -37,20 +37,13 @@ def read_power(word):
     if not word.startswith("x"):
         raise NoText(0)
     box_text, roof, exponent_text = word[1:].partition("^")
-    if not is_box(box_text):
+    if not is_short(box_text):
         raise NoText(0)
     if roof == "":
         return (int(box_text), 1)
     if len(exponent_text) != 1 or exponent_text not in "23456789":
         raise NoText(0)
     return (int(box_text), int(exponent_text))
-
-
-def is_box(text):
-    """Whether these are one or two figures, without a nought ahead."""
-    if not 1 <= len(text) <= 2 or not all([sign in FIGURES for sign in text]):
-        return False
-    return len(text) == 1 or text[0] != "0"
 
 
 def look_order(places):

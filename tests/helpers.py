@@ -165,3 +165,139 @@ def rows_of_size(size):
         last = len(rows) - 1
         rows.append((deed, (last, last) if deed == "add" else (last,)))
     return tuple(rows)
+
+
+def maker_rows(wood):
+    """For each maker, in order, (name, its kind's number, its parts' kinds' numbers)."""
+    names = [name for name, makers in wood]
+    return [
+        (maker, at, tuple([names.index(part) for part in parts]))
+        for at, (name, makers) in enumerate(wood) for maker, parts in makers
+    ]
+
+
+# a reader of WOOD: what is added up, how many there are and so on, also sums without terms, alike terms, a nought
+READER_TEXT = """reader 2 1 0 3
+zero 0 = none
+zero 1 = 1
+one 0 = 1
+one 1 = 1
+neg 0 = -1 0.0
+neg 1 = 1 0.1 + 1
+add 0 = 1 0.0 + 1 1.0
+add 1 = 1 + 1 1.1 + 1 0.1
+sum 0 = 1 0.0
+sum 1 = 1/2
+nil 0 = 0
+list 0 = 1 1.0 + 1 0.0
+rest 0 = -2/3 0.0
+lift 0 = 5
+lift 1 = none
+lift 2 = none
+part 0 = 1 0.0 1.0
+part 1 = 1 0.0 + 1/2 1.1 + 1/2 1.1
+part 2 = 3 1.0 + 0 0.0 1.1 + 7/2"""
+READER = (
+    (2, 1, 0, 3),
+    (
+        ((), (((1, 1), ()),)),
+        ((((1, 1), ()),), (((1, 1), ()),)),
+        ((((-1, 1), (0,)),), (((1, 1), (1,)), ((1, 1), (None,)))),
+        (
+            (((1, 1), (0, None)), ((1, 1), (None, 0))),
+            (((1, 1), (None, None)), ((1, 1), (None, 1)), ((1, 1), (1, None))),
+        ),
+        ((((1, 1), (0,)),), (((1, 2), (None,)),)),
+        ((((0, 1), ()),),),
+        ((((1, 1), (None, 0)), ((1, 1), (0, None))),),
+        ((((-2, 3), (0,)),),),
+        ((((5, 1), (None,)),), (), ()),
+        (
+            (((1, 1), (0, 0)),),
+            (((1, 1), (0, None)), ((1, 2), (None, 1)), ((1, 2), (None, 1))),
+            (((3, 1), (None, 0)), ((0, 1), (0, 1)), ((7, 2), (None, None))),
+        ),
+    ),
+)
+# how many steps a chain has, and two to the power of that over three to it
+CHAIN_READER = ((2,), (((), (((1, 1), ()),)), ((((1, 1), (0,)), ((1, 1), (None,))), (((2, 3), (1,)),))))
+
+
+def some_number(source):
+    """A fraction, a whole number more often than not, at times nought."""
+    return pair(Fraction(source.randrange(-4, 5), source.choice((1, 1, 1, 2, 3))))
+
+
+def some_reader(source, wood, counts, most=3, number=some_number):
+    """A reader of so many boxes, its sums of at most so many terms."""
+    rules = []
+    for maker, kind, parts in maker_rows(wood):
+        choices = [[None] + list(range(counts[part])) * 2 for part in parts]
+        rules.append(tuple([
+            tuple([
+                (number(source), tuple([source.choice(boxes) for boxes in choices]))
+                for term in range(source.randrange(most + 1))
+            ])
+            for box in range(counts[kind])
+        ]))
+    return (tuple(counts), tuple(rules))
+
+
+def some_wood(source, kinds=None):
+    """A wood of one to four kinds, with makers of no part in the first one at least."""
+    many = kinds or source.randrange(1, 5)
+    names = ["p", "q", "kinds", "num"][:many]
+    letters = iter("abcdefghijkl")
+    told = []
+    for at, name in enumerate(names):
+        makers = [(next(letters), ())] if at == 0 else []
+        for turn in range(source.randrange(4 if many > 2 else 5)):
+            letter = next(letters, None)
+            if letter is not None:
+                makers.append((letter, tuple([source.choice(names) for part in range(source.choice((0, 1, 1, 2, 2)))])))
+        told.append((name, tuple(makers)))
+    return tuple(told)
+
+
+def read_rows(wood, reader, tree):
+    """For each row of a tree the tuple of its boxes, as Fractions."""
+    rules = dict(zip([maker for maker, kind, parts in maker_rows(wood)], reader[1]))
+    told = []
+    for maker, parts in tree:
+        boxes = []
+        for terms in rules[maker]:
+            total = Fraction(0)
+            for number, own in terms:
+                product = Fraction(*number)
+                for part, box in zip(parts, own):
+                    product *= 1 if box is None else told[part][box]
+                total += product
+            boxes.append(total)
+        told.append(tuple(boxes))
+    return told
+
+
+def read_whole(wood, reader, tree):
+    """The whole's boxes as Fractions."""
+    return read_rows(wood, reader, tree)[-1]
+
+
+def great_tree(source, wood, kind=None, rows=60, most=2000):
+    """A tree of a kind's number of at most so many rows that bears parts many times, each row of at most that size."""
+    makers = maker_rows(wood)
+    told, kinds, sizes = [], [], []
+    for turn in range(rows * 6):
+        maker, own, parts = source.choice(makers)
+        if own in kinds and not parts and source.randrange(8):
+            continue
+        # the last ones more often than not, so that sizes grow
+        able = [[at for at in range(len(told)) if kinds[at] == part][-2 if source.randrange(6) else 0:] for part in parts]
+        chosen = tuple([source.choice(rows_there) for rows_there in able if rows_there])
+        size = 1 + sum([sizes[at] for at in chosen])
+        if len(chosen) == len(parts) and size <= most and len(told) < rows:
+            told.append((maker, chosen))
+            kinds.append(own)
+            sizes.append(size)
+    while told and kind is not None and kinds[len(told) - 1] != kind:
+        told.pop()
+    return tuple(told) or None

@@ -41,6 +41,18 @@ FUNCTIONS = {
         "read_tree": "wood, text",
     },
     "woodtexts": {"show_wood": "wood", "read_wood": "text"},
+    "readers": {
+        "look_reader": "wood, reader",
+        "boxes_at": "wood, reader, tree",
+        "all_boxes_at": "wood, reader, tree",
+    },
+    "readertexts": {"show_reader": "wood, reader", "read_reader": "wood, text"},
+    "codes": {"code_of": "wood, reader"},
+    "raised": {
+        "put_back": "wood, reader, maker, poly",
+        "raised_to": "wood, reader, degree=2",
+        "rooms_of": "reader, degree=1",
+    },
 }
 CLASSES = {
     "polys": {
@@ -56,6 +68,20 @@ CLASSES = {
             "__len__": None,
             "__str__": None,
             "__repr__": None,
+        },
+    },
+    "machine": {
+        "Machine": {
+            "__init__": "self, wood, reader",
+            "feed": "self, maker",
+            "feed_all": "self, word",
+            "back": "self",
+            "pile": "self",
+            "highest": "self",
+            "deeds_done": "self",
+            "__eq__": None,
+            "__len__": None,
+            "__str__": None,
         },
     },
 }

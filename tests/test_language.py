@@ -17,6 +17,15 @@ BUILTINS = {
     "LookupError", "ZeroDivisionError", "ArithmeticError", "OverflowError", "RuntimeError", "NotImplementedError",
     "AttributeError", "StopIteration", "NotImplemented",
 }
+BUILTIN_METHODS = {
+    "append", "endswith", "extend", "get", "index", "insert", "items", "join", "keys", "partition", "pop", "replace",
+    "split", "startswith", "strip", "values", "zfill", "__init__",
+}
+# names of methods that builtin values change by, or that are barred outright
+TAKEN_NAMES = {
+    "append", "args", "clear", "decode", "elements", "encode", "extend", "format", "hex", "input", "insert", "items",
+    "keys", "law", "mro", "open", "pop", "register", "remove", "reverse", "setdefault", "sort", "update", "values",
+}
 TAKE_LISTS = {"any", "all", "min", "max", "sum", "sorted"}
 
 
@@ -104,6 +113,44 @@ class TestLanguage(unittest.TestCase):
                 if isinstance(node.func, ast.Name) and node.func.id in TAKE_LISTS:
                     for argument in node.args:
                         self.assertNotIsInstance(argument, ast.GeneratorExp, (name, node.lineno))
+
+    def test_methods_and_attributes_apart(self):
+        methods, attributes, read = set(), set(), set()
+        for tree in self.trees.values():
+            for made in nodes_of(tree, ast.ClassDef):
+                methods.update([node.name for node in made.body if isinstance(node, ast.FunctionDef)])
+            for node in nodes_of(tree, ast.Attribute):
+                (read if isinstance(node.ctx, ast.Load) else attributes).add(node.attr)
+        self.assertEqual(methods & attributes, set())
+        self.assertEqual(read - methods - attributes - BUILTIN_METHODS, set())
+        self.assertEqual((methods | attributes) & TAKEN_NAMES, set())
+
+    def test_imports_and_classes_keep_their_names(self):
+        for name, tree in self.trees.items():
+            taken = {alias.name for node in nodes_of(tree, ast.ImportFrom) for alias in node.names}
+            taken.update([node.name for node in nodes_of(tree, ast.ClassDef)])
+            bound = {node.id for node in nodes_of(tree, ast.Name) if not isinstance(node.ctx, ast.Load)}
+            bound.update([node.arg for node in nodes_of(tree, ast.arg)])
+            self.assertEqual(bound & taken, set(), name)
+            for node in tree.body:
+                if isinstance(node, ast.Assign):
+                    self.assertEqual([type(target) for target in node.targets], [ast.Name], name)
+
+    def test_powers_are_literal(self):
+        for name, tree in self.trees.items():
+            for node in nodes_of(tree, ast.BinOp):
+                if isinstance(node.op, ast.Pow):
+                    self.assertIsInstance(node.right, ast.Constant, (name, node.lineno))
+
+    def test_files_import_in_one_direction(self):
+        above = {}
+        for name, tree in self.trees.items():
+            above[name] = {node.module.partition(".")[2] + ".py" for node in nodes_of(tree, ast.ImportFrom)}
+        left = set(above)
+        while left:
+            free = {name for name in left if not above[name] & left}
+            self.assertTrue(free, left)
+            left -= free
 
 
 if __name__ == "__main__":
