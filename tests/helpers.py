@@ -1,8 +1,12 @@
 """What several tests use: asking for a refusal, seeded chance, and texts that differ in one sign."""
 
+import itertools
+import math
 import random
 import re
 from fractions import Fraction
+
+from boughkept.polys import Poly, exponents_to
 
 # every sign that texts are of: from the blank to ~ but the percent sign, and the line feed
 SIGNS = "".join([chr(code) for code in range(32, 127) if code != 37]) + "\n"
@@ -264,16 +268,7 @@ def read_rows(wood, reader, tree):
     rules = dict(zip([maker for maker, kind, parts in maker_rows(wood)], reader[1]))
     told = []
     for maker, parts in tree:
-        boxes = []
-        for terms in rules[maker]:
-            total = Fraction(0)
-            for number, own in terms:
-                product = Fraction(*number)
-                for part, box in zip(parts, own):
-                    product *= 1 if box is None else told[part][box]
-                total += product
-            boxes.append(total)
-        told.append(tuple(boxes))
+        told.append(sums_there(rules[maker], [told[part] for part in parts]))
     return told
 
 
@@ -301,3 +296,94 @@ def great_tree(source, wood, kind=None, rows=60, most=2000):
     while told and kind is not None and kinds[len(told) - 1] != kind:
         told.pop()
     return tuple(told) or None
+
+
+def some_poly(source, boxes, degree=4, most=6):
+    """A Poly of so many boxes with at most so many terms."""
+    rows = exponents_to(boxes, degree)
+    return Poly(boxes, [(source.choice(rows), some_number(source)) for term in range(source.randrange(most + 1))])
+
+
+def worth_at(poly, numbers):
+    """What a Poly comes to, by Fractions."""
+    return sum([
+        math.prod([Fraction(number) ** exponent for number, exponent in zip(numbers, exponents)], start=Fraction(*own))
+        for exponents, own in poly.terms()
+    ], Fraction(0))
+
+
+def products_to(boxes, degree):
+    """The products of all choices of one to that many boxes, those of fewer first, by the boxes' numbers."""
+    return [
+        math.prod(chosen, start=Fraction(1))
+        for many in range(1, degree + 1) for chosen in itertools.combinations_with_replacement(boxes, many)
+    ]
+
+
+def room_row(boxes, degree):
+    """The row of a tree with these boxes: 1, then all products to the degree."""
+    return [Fraction(1)] + products_to(boxes, degree)
+
+
+def rank_of(rows):
+    """How many of these rows, at most, are free."""
+    kept = []
+    for row in rows:
+        row = list(row)
+        for at, other in kept:
+            if row[at]:
+                factor = row[at] / other[at]
+                row = [number - factor * its for number, its in zip(row, other)]
+        place = next((at for at, number in enumerate(row) if number), None)
+        if place is not None:
+            kept.append((place, row))
+    return len(kept)
+
+
+def all_trees(wood, reader, cap=400):
+    """(height, trees): for each kind all trees (height, (maker, parts), boxes) to that height, at most so many a kind."""
+    rules = dict(zip([maker for maker, kind, parts in maker_rows(wood)], reader[1]))
+    height, told = 0, [[] for kind in wood]
+    while True:
+        more = [[] for kind in wood]
+        for maker, kind, parts in maker_rows(wood):
+            many = math.prod([len(told[part]) for part in parts])
+            if many > cap:
+                return height, told
+            for chosen in itertools.product(*[told[part] for part in parts]):
+                if max([0] + [thing[0] for thing in chosen]) == height:
+                    nested = (maker, tuple([thing[1] for thing in chosen]))
+                    boxes = sums_there(rules[maker], [thing[2] for thing in chosen])
+                    more[kind].append((height + 1, nested, boxes))
+        if max([len(own) + len(its) for own, its in zip(told, more)]) > cap or height > 11:
+            return height, told
+        height, told = height + 1, [own + its for own, its in zip(told, more)]
+
+
+def sums_there(sums, parts):
+    """What a maker's sums come to where its parts have these boxes, by Fractions."""
+    return tuple([
+        sum([
+            math.prod([part[box] for part, box in zip(parts, boxes) if box is not None], start=Fraction(*number))
+            for number, boxes in terms
+        ], Fraction(0))
+        for terms in sums
+    ])
+
+
+# makers of all kinds that a wood within twelve rooms may have; one kind has no makers, one makers but no trees
+BARREN = (
+    ("p", (("a", ()), ("g", ("p",)), ("f", ("p", "p")))),
+    ("q", (("b", ("p",)), ("h", ("q", "p")))),
+    ("void", ()),
+    ("deep", (("d", ("deep",)), ("e", ("void", "p")))),
+)
+
+
+def some_within(source, degree, rooms=12):
+    """A wood and a reader of it whose rooms to the degree are at most so many in all."""
+    while True:
+        wood = source.choice((CHAINS, BARREN, some_wood(source), some_wood(source, 1), some_wood(source, 2)))
+        counts = [source.randrange(5) for kind in wood]
+        if sum([math.comb(count + degree, degree) for count in counts]) <= rooms and sum(counts):
+            return wood, some_reader(source, wood, counts, most=source.choice((1, 2, 3, 6)))

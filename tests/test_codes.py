@@ -5,7 +5,7 @@ from fractions import Fraction
 
 from boughkept.codes import code_of
 from boughkept.readertexts import read_reader
-from helpers import CHAIN_READER, CHAINS, READER, WOOD, chance, maker_rows, some_reader, some_wood
+from helpers import CHAIN_READER, CHAINS, READER, WOOD, chance, maker_rows, some_reader, some_wood, sums_there
 
 TIMES, PLUS = ("times",), ("plus",)
 
@@ -30,20 +30,6 @@ def bench_of(deeds, parts):
             other, one = bench.pop(), bench.pop()
             bench.append({"times": one * other, "plus": one + other}[word])
     return bench
-
-
-def sums_of(sums, parts):
-    """What the sums come to, parts' boxes being told."""
-    told = []
-    for terms in sums:
-        total = Fraction(0)
-        for number, boxes in terms:
-            product = Fraction(*number)
-            for part, box in zip(parts, boxes):
-                product *= part[box] if box is not None else 1
-            total += product
-        told.append(total)
-    return told
 
 
 class TestCodes(unittest.TestCase):
@@ -99,7 +85,7 @@ class TestCodes(unittest.TestCase):
                     [Fraction(source.randrange(-9, 10), source.randrange(1, 5)) for box in range(counts[part])]
                     for part in parts
                 ]
-                self.assertEqual(bench_of(deeds, boxes), sums_of(sums, boxes))
+                self.assertEqual(tuple(bench_of(deeds, boxes)), sums_there(sums, boxes))
 
     def test_tuples_all_through(self):
         code = code_of(WOOD, READER)

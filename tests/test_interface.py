@@ -53,6 +53,9 @@ FUNCTIONS = {
         "raised_to": "wood, reader, degree=2",
         "rooms_of": "reader, degree=1",
     },
+    "grown": {"grown_trees": "wood, reader, degree=1"},
+    "sayings": {"sayings_of": "wood, reader, degree=1"},
+    "answers": {"answered": "wood, reader, kind, poly"},
 }
 CLASSES = {
     "polys": {

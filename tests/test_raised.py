@@ -1,18 +1,17 @@
 """[16] [17] [18] Polynomials put back through makers, readers raised, rooms counted."""
 
-import itertools
 import math
 import unittest
 from fractions import Fraction
 
-from boughkept.polys import Poly, exponents_to
+from boughkept.polys import exponents_to
 from boughkept.polytexts import read_poly
 from boughkept.raised import put_back, raised_to, rooms_of
 from boughkept.readers import boxes_at, look_reader
 from boughkept.readertexts import read_reader, show_reader
 from helpers import (
-    CHAIN_READER, CHAINS, READER, WOOD, chance, great_tree, maker_rows, pair, read_rows, some_number, some_reader,
-    some_trees, some_wood,
+    CHAIN_READER, CHAINS, READER, WOOD, chance, great_tree, maker_rows, pair, products_to, read_rows, some_poly,
+    some_reader, some_trees, some_wood, sums_there, worth_at,
 )
 
 PAIRS = (("p", (("a", ()), ("g", ("p",)), ("f", ("p", "p")))),)
@@ -21,41 +20,8 @@ TWO = read_reader(PAIRS, "\n".join([
 ]))
 
 
-def some_poly(source, boxes, degree=4, most=6):
-    """A Poly of so many boxes with at most so many terms."""
-    rows = exponents_to(boxes, degree)
-    return Poly(boxes, [(source.choice(rows), some_number(source)) for term in range(source.randrange(most + 1))])
-
-
-def worth_at(poly, numbers):
-    """What a Poly comes to, by Fractions."""
-    return sum([
-        math.prod([Fraction(number) ** exponent for number, exponent in zip(numbers, exponents)], start=Fraction(*own))
-        for exponents, own in poly.terms()
-    ], Fraction(0))
-
-
-def sums_at(sums, parts):
-    """What a maker's sums come to, by Fractions."""
-    return [
-        sum([
-            math.prod([part[box] for part, box in zip(parts, boxes) if box is not None], start=Fraction(*number))
-            for number, boxes in terms
-        ], Fraction(0))
-        for terms in sums
-    ]
-
-
 def some_boxes(source, count):
     return [Fraction(source.randrange(-9, 10), source.randrange(1, 5)) for box in range(count)]
-
-
-def products_to(boxes, degree):
-    """The products of all choices of one to that many boxes, those of fewer first, by the boxes' numbers."""
-    return [
-        math.prod(chosen, start=Fraction(1))
-        for many in range(1, degree + 1) for chosen in itertools.combinations_with_replacement(boxes, many)
-    ]
 
 
 def place(boxes):
@@ -114,9 +80,9 @@ class TestPutBack(unittest.TestCase):
                 for go in range(3):
                     boxes = [some_boxes(source, counts[part]) for part in parts]
                     numbers = [number for part in boxes for number in part]
-                    self.assertEqual(worth_at(told, numbers), worth_at(poly, sums_at(sums, boxes)))
+                    self.assertEqual(worth_at(told, numbers), worth_at(poly, sums_there(sums, boxes)))
                     self.assertEqual(told.worth(tuple([pair(number) for number in numbers])),
-                                     pair(worth_at(poly, sums_at(sums, boxes))))
+                                     pair(worth_at(poly, sums_there(sums, boxes))))
 
 
 class TestRaised(unittest.TestCase):
@@ -202,7 +168,7 @@ class TestRaised(unittest.TestCase):
             for (maker, kind, parts), sums, own in zip(maker_rows(wood), raised_to(wood, reader, degree)[1], reader[1]):
                 boxes = [some_boxes(source, counts[part]) for part in parts]
                 raised = [products_to(part, degree) for part in boxes]
-                self.assertEqual(sums_at(sums, raised), products_to(sums_at(own, boxes), degree))
+                self.assertEqual(list(sums_there(sums, raised)), products_to(sums_there(own, boxes), degree))
 
     def test_told_readers_once_more(self):
         source = chance(144)
