@@ -24,6 +24,11 @@ def place_of(exponents):
     return (sum(exponents), tuple([-number for number in exponents]))
 
 
+def unit_row(many, at):
+    """So many numbers, one of them 1, the others nought."""
+    return tuple([1 if place == at else 0 for place in range(many)])
+
+
 def put_together(terms):
     """The terms in order, alike exponents added, noughts left out."""
     sums = {}
@@ -100,3 +105,8 @@ class Poly:
 
     def __repr__(self):
         return f"Poly({self.boxes}, {str(self)})"
+
+
+def box_poly(boxes, box):
+    """The Poly that is one of so many boxes."""
+    return Poly(boxes, [(unit_row(boxes, box), (1, 1))])

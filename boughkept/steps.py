@@ -4,7 +4,7 @@ A whole's row is a sum of products of its parts' rows. So the rows of all trees 
 made of told trees below it, and where none is told of a height, none is of a greater one.
 """
 
-from boughkept.polys import exponents_to
+from boughkept.polys import exponents_to, unit_row
 from boughkept.trees import made_of
 from boughkept.wholes import lowest_row, row_made, whole_rules
 from boughkept.woods import maker_table
@@ -31,11 +31,6 @@ class Patch:
             return False
         self.left = narrowed(self.left, worths)
         return True
-
-
-def unit_row(many, at):
-    """So many numbers, one of them 1, the others nought."""
-    return tuple([1 if place == at else 0 for place in range(many)])
 
 
 def power_product(numbers, exponents):

@@ -7,6 +7,7 @@ import re
 from fractions import Fraction
 
 from boughkept.polys import Poly, exponents_to
+from boughkept.readertexts import read_reader
 
 # every sign that texts are of: from the blank to ~ but the percent sign, and the line feed
 SIGNS = "".join([chr(code) for code in range(32, 127) if code != 37]) + "\n"
@@ -225,6 +226,13 @@ READER = (
 )
 # how many steps a chain has, and two to the power of that over three to it
 CHAIN_READER = ((2,), (((), (((1, 1), ()),)), ((((1, 1), (0,)), ((1, 1), (None,))), (((2, 3), (1,)),))))
+
+
+def chain_reader(*rows):
+    """A reader of CHAINS by its rows for z, then for s."""
+    boxes = len(rows) // 2
+    named = [f"{'zs'[at // boxes]} {at % boxes} = {row}" for at, row in enumerate(rows)]
+    return read_reader(CHAINS, "\n".join([f"reader {boxes}"] + named))
 
 
 def some_number(source):

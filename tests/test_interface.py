@@ -56,6 +56,10 @@ FUNCTIONS = {
     "grown": {"grown_trees": "wood, reader, degree=1"},
     "sayings": {"sayings_of": "wood, reader, degree=1"},
     "answers": {"answered": "wood, reader, kind, poly"},
+    "papers": {"paper_holds": "wood, reader, paper"},
+    "papermaker": {"paper_for": "wood, reader, degree=1"},
+    "alike": {"put_beside": "wood, one, other", "told_alike": "wood, one, other, kind, box=0, its=0"},
+    "least": {"least_reader": "wood, reader"},
 }
 CLASSES = {
     "polys": {
