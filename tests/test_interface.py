@@ -60,6 +60,19 @@ FUNCTIONS = {
     "papermaker": {"paper_for": "wood, reader, degree=1"},
     "alike": {"put_beside": "wood, one, other", "told_alike": "wood, one, other, kind, box=0, its=0"},
     "least": {"least_reader": "wood, reader"},
+    "printers": {"look_printer": "wood, printer", "printed_at": "wood, printer, tree"},
+    "numbered": {
+        "text_worth": "letters, text",
+        "text_width": "letters, text",
+        "numbered_reader": "wood, printer, letters=None",
+        "print_alike": "wood, one, other, kind, box=0, its=0",
+    },
+    "turners": {"look_turner": "first, second, turner", "turned_tree": "first, second, turner, tree"},
+    "through": {
+        "read_through": "first, second, turner, reader",
+        "print_through": "first, second, turner, printer",
+        "turned_through": "first, second, third, turner, other",
+    },
 }
 CLASSES = {
     "polys": {
@@ -91,6 +104,7 @@ CLASSES = {
             "__str__": None,
         },
     },
+    "desk": {"Desk": {"__init__": "self", "say": "self, row"}},
 }
 
 

@@ -18,7 +18,7 @@ BUILTINS = {
     "AttributeError", "StopIteration", "NotImplemented",
 }
 BUILTIN_METHODS = {
-    "append", "endswith", "extend", "get", "index", "insert", "items", "join", "keys", "partition", "pop", "replace",
+    "append", "bit_length", "endswith", "extend", "get", "index", "insert", "items", "join", "keys", "partition", "pop", "replace",
     "split", "startswith", "strip", "values", "zfill", "__init__",
 }
 # names of methods that builtin values change by, or that are barred outright
