@@ -8,6 +8,7 @@ from fractions import Fraction
 
 from boughkept.polys import Poly, exponents_to
 from boughkept.readertexts import read_reader
+from boughkept.trees import height_of, look_tree, plain_of, tree_kind
 
 # every sign that texts are of: from the blank to ~ but the percent sign, and the line feed
 SIGNS = "".join([chr(code) for code in range(32, 127) if code != 37]) + "\n"
@@ -377,6 +378,17 @@ def sums_there(sums, parts):
         ], Fraction(0))
         for terms in sums
     ])
+
+
+def height_told(case, wood, kind, answer):
+    """The height of the tree that is told, a plain one of the kind; None where both are alike."""
+    if answer == ("alike",):
+        return None
+    word, tree = answer
+    case.assertEqual((type(answer), word), (tuple, "tree"))
+    case.assertIs(look_tree(wood, tree), True)
+    case.assertEqual((plain_of(tree), tree_kind(wood, tree)), (tree, kind))
+    return height_of(tree)
 
 
 # makers of all kinds that a wood within twelve rooms may have; one kind has no makers, one makers but no trees

@@ -9,10 +9,10 @@ from boughkept.raised import raised_to
 from boughkept.readers import boxes_at, look_reader
 from boughkept.readertexts import read_reader, show_reader
 from boughkept.sayings import sayings_of
-from boughkept.trees import height_of, look_tree, plain_of, tree_kind
+from boughkept.trees import height_of
 from helpers import (
-    BARREN, CHAIN_READER, CHAINS, READER, WOOD, all_trees, chain_reader, chance, pair, read_rows, read_whole,
-    some_number, some_reader, some_trees, some_within, some_wood,
+    BARREN, CHAIN_READER, CHAINS, READER, WOOD, all_trees, chain_reader, chance, height_told, pair, read_rows,
+    read_whole, some_number, some_reader, some_trees, some_within, some_wood,
 )
 
 
@@ -91,14 +91,9 @@ class TestToldAlike(unittest.TestCase):
     def look(self, wood, one, other, kind, box, its, cap=150):
         """Holds an answer against the point's words; tells it."""
         answer = told_alike(wood, one, other, kind, box, its)
-        below = None
-        if answer != ("alike",):
-            word, tree = answer
-            self.assertEqual((type(answer), word), (tuple, "tree"))
-            self.assertIs(look_tree(wood, tree), True)
-            self.assertEqual((plain_of(tree), tree_kind(wood, tree)), (tree, kind))
+        below = height_told(self, wood, kind, answer)
+        for tree in answer[1:]:
             self.assertNotEqual(read_whole(wood, one, tree)[box], read_whole(wood, other, tree)[its])
-            below = height_of(tree)
         lower, trees = all_trees(wood, put_beside(wood, one, other), cap)
         for height, nested, boxes in trees[kind]:
             if below is None or height < below:

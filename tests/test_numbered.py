@@ -14,9 +14,10 @@ from boughkept.printers import look_printer, printed_at
 from boughkept.readers import boxes_at, look_reader
 from boughkept.readertexts import show_reader
 from boughkept.sayings import sayings_of
-from boughkept.trees import height_of, look_tree, plain_of, tree_kind
+from boughkept.trees import height_of
 from helpers import (
-    BARREN, CHAINS, WOOD, all_trees, chance, great_tree, maker_rows, pair, read_whole, some_trees, some_wood, worth_at,
+    BARREN, CHAINS, WOOD, all_trees, chance, great_tree, height_told, maker_rows, pair, read_whole, some_trees, some_wood,
+    worth_at,
 )
 from printing import printed, some_printer, width, worth
 
@@ -227,14 +228,9 @@ class TestPrintAlike(unittest.TestCase):
     def look(self, wood, one, other, kind, box=0, its=0, cap=150):
         """Holds an answer against the point's words; tells it."""
         answer = print_alike(wood, one, other, kind, box, its)
-        below = None
-        if answer != ("alike",):
-            word, tree = answer
-            self.assertEqual((type(answer), word), (tuple, "tree"))
-            self.assertIs(look_tree(wood, tree), True)
-            self.assertEqual((plain_of(tree), tree_kind(wood, tree)), (tree, kind))
+        below = height_told(self, wood, kind, answer)
+        for tree in answer[1:]:
             self.assertNotEqual(printed_at(wood, one, tree)[box], printed_at(wood, other, tree)[its])
-            below = height_of(tree)
         nothing = ((0,) * len(wood), ((),) * len(maker_rows(wood)))
         for height, nested, boxes in all_trees(wood, nothing, cap)[1][kind]:
             if below is None or height < below:

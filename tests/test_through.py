@@ -15,12 +15,12 @@ from boughkept.through import print_through, read_through, turned_through
 from boughkept.turners import look_turner, turned_tree
 from boughkept.words import read_tree
 from helpers import (
-    BARREN, CHAIN_READER, CHAINS, WOOD, chain_reader, chance, great_tree, maker_rows, pair, read_whole, some_reader,
+    CHAIN_READER, CHAINS, WOOD, chain_reader, chance, great_tree, maker_rows, pair, read_whole, some_reader,
     some_trees, some_wood, worth_at,
 )
 from printing import some_printer
 from test_turners import FORKS, PARTS, TURNER
-from turning import pattern_rows, pattern_tree, some_turner, turned
+from turning import pattern_rows, pattern_tree, some_turner, turners_between
 
 # each step turned into two, the chain without steps into one step
 DOUBLE = ((0,), ((("z", ()), ("s", (0,))), (("part", 0), ("s", (0,)), ("s", (1,)))))
@@ -135,12 +135,7 @@ class TestReadThrough(unittest.TestCase):
     def test_some_readers(self):
         source = chance(301)
         done = 0
-        for turn in range(150):
-            first = source.choice((FORKS, CHAINS, WOOD, BARREN, some_wood(source)))
-            second = source.choice((PARTS, FORKS, CHAINS, WOOD, some_wood(source)))
-            turner = some_turner(source, first, second)
-            if turner is None:
-                continue
+        for turn, first, second, turner in turners_between(source, 150, (FORKS,), (PARTS, FORKS)):
             reader = some_reader(source, second, [source.randrange(5) for kind in second], most=source.choice((1, 3, 6)))
             told = read_through(first, second, turner, reader)
             self.assertIs(look_reader(first, told), True)
@@ -222,12 +217,7 @@ class TestPrintThrough(unittest.TestCase):
     def test_some_printers(self):
         source = chance(305)
         done = 0
-        for turn in range(150):
-            first = source.choice((FORKS, CHAINS, WOOD, BARREN, some_wood(source)))
-            second = source.choice((PARTS, FORKS, CHAINS, WOOD, some_wood(source)))
-            turner = some_turner(source, first, second)
-            if turner is None:
-                continue
+        for turn, first, second, turner in turners_between(source, 150, (FORKS,), (PARTS, FORKS)):
             printer = some_printer(source, second, [source.randrange(3) for kind in second])
             told = print_through(first, second, turner, printer)
             self.assertIs(look_printer(first, told), True)
@@ -307,12 +297,10 @@ class TestTurnedThrough(unittest.TestCase):
     def test_some_turners(self):
         source = chance(306)
         done = 0
-        for turn in range(150):
-            first = source.choice((FORKS, CHAINS, WOOD, BARREN, some_wood(source)))
-            second = source.choice((PARTS, FORKS, CHAINS, WOOD, some_wood(source)))
+        for turn, first, second, turner in turners_between(source, 150, (FORKS,), (PARTS, FORKS)):
             third = source.choice((PARTS, FORKS, CHAINS, some_wood(source)))
-            turner, other = some_turner(source, first, second), some_turner(source, second, third)
-            if turner is None or other is None:
+            other = some_turner(source, second, third)
+            if other is None:
                 continue
             told = turned_through(first, second, third, turner, other)
             self.assertIs(look_turner(first, third, told), True)

@@ -7,10 +7,10 @@ from boughkept.trees import look_tree, plain_of, size_of, tree_kind
 from boughkept.turners import look_turner, turned_tree
 from boughkept.words import read_tree, show_tree
 from helpers import (
-    BARREN, CHAINS, WOOD, chance, great_tree, maker_rows, nested_at, plain_rows, refusal, rows_of_size, some_trees,
+    CHAINS, WOOD, chance, great_tree, maker_rows, nested_at, plain_rows, refusal, rows_of_size, some_trees,
     some_wood,
 )
-from turning import some_turner, turned
+from turning import some_turner, turned, turners_between
 
 FORKS = (("p", (("a", ()), ("b", ()), ("f", ("p", "p")), ("g", ("p", "q")))), ("q", (("c", ()), ("h", ("q", "p")))))
 # a maker that is called as a part's row is
@@ -284,12 +284,7 @@ class TestTurnedTree(unittest.TestCase):
     def test_some_turners(self):
         source = chance(292)
         done = 0
-        for turn in range(120):
-            first = source.choice((FORKS, CHAINS, WOOD, BARREN, some_wood(source)))
-            second = source.choice((PARTS, FORKS, CHAINS, WOOD, some_wood(source)))
-            turner = some_turner(source, first, second)
-            if turner is None:
-                continue
+        for turn, first, second, turner in turners_between(source, 120, (FORKS,), (PARTS, FORKS)):
             for nested, tree in some_trees(turn, 6, first, 4):
                 told = turned_tree(first, second, turner, tree)
                 self.assertEqual(told, plain_rows(turned(first, turner, nested)))

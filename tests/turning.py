@@ -1,6 +1,6 @@
 """What tests of turners use: turners by chance, and turning told by another way."""
 
-from helpers import maker_rows
+from helpers import BARREN, CHAINS, WOOD, maker_rows, some_wood
 
 
 def some_pattern(source, second, kind, free, most):
@@ -60,6 +60,16 @@ def some_rows_of(source, second, kinds, row, most):
         if tree is not None and len(pattern_rows(source, tree)) <= most:
             return pattern_rows(source, tree)
     return None
+
+
+def turners_between(source, turns, firsts, seconds):
+    """(turn, first, second, turner), by chance, between these woods and others."""
+    for turn in range(turns):
+        first = source.choice((*firsts, CHAINS, WOOD, BARREN, some_wood(source)))
+        second = source.choice((*seconds, CHAINS, WOOD, some_wood(source)))
+        turner = some_turner(source, first, second)
+        if turner is not None:
+            yield turn, first, second, turner
 
 
 def turned(first, turner, nested):
