@@ -367,7 +367,8 @@ class TestDesk(unittest.TestCase):
             if level in (5, 6, 7):
                 self.assertEqual(desk.say(f"ask great u 1 x{level - 5}"), tree)
             tree = f"{'f' if level < 4 else 'g' if level == 4 else 'h'}({tree},{tree})"
-        self.assertEqual(tree.count("a"), 1024)
+        # its text is read, though it isn't told
+        self.assertEqual((tree.count("a"), desk.say(f"read great {tree}")), (1024, "0 0 0 1"))
         self.refused(TooLong, desk, "ask great u 1 x3", "most", 2000)
         self.refused(TooLong, desk, "ask great u -5/3 x3", "most", 2000)
         self.assertEqual(desk.say("ask great u 1 x0 + 1 x3").count("a"), 128)
